@@ -1,0 +1,1 @@
+"""Stackworks: programs for a stack, and what they do without running."""

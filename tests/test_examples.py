@@ -1,0 +1,59 @@
+"""The examples of the document, to the letter."""
+
+import unittest
+
+from stackworks.effects import Effect, effect_of, same_effect
+from stackworks.errors import InvalidText
+from stackworks.programs import Program, count_word, word_at, words_from, written
+
+
+class ExamplesTest(unittest.TestCase):
+    def test_programs_of_the_table(self):
+        table = [("r1", (2, 0, 0)), ("r2", (3, 0, 0)), ("1 ( r2 )4 d", (2, 1, 0)), ("{ r1 | } d", (2, 0, -1))]
+        for text, sizes in table:
+            program = Program(text)
+            self.assertEqual((program.need, program.rise, program.growth), sizes, text)
+
+    def test_effects_of_the_table(self):
+        table = [
+            ("r1", 2, (("in", 0), ("in", 1))),
+            ("r2", 3, (("in", 1), ("in", 0), ("in", 2))),
+            ("1 ( r2 )4 d", 2, (("in", 0), ("lit", 1))),
+        ]
+        for text, taken, left in table:
+            effect = effect_of(Program(text))
+            self.assertEqual((effect.taken, effect.left), (taken, left), text)
+
+    def test_program(self):
+        tour, pick = Program("1 ( r2 )4 d"), Program("{ r1 | } d")
+        self.assertEqual(
+            [tour.steps, len(tour), tour.need, tour.rise, pick.growth, pick.steps, "r2" in tour, (tour * 3).text],
+            [6, 5, 2, 1, -1, None, True, "( 1 ( r2 )4 d )3"])
+
+    def test_wrong_program(self):
+        with self.assertRaises(InvalidText) as caught:
+            Program("{ d | 7 }")
+        self.assertEqual(caught.exception.index, 4)
+
+    def test_steps(self):
+        far = Program("r2 p0 d") * 10 ** 30
+        some = [word for turn, word in zip(range(3), words_from(far, 10 ** 30))]
+        self.assertEqual(
+            [word_at(far, 3 * 10 ** 30 - 1), count_word(far, "p0") == 10 ** 30, some, written(Program("( 5 d )2"))],
+            ["d", True, ["p0", "d", "r2"], ("5", "d", "5", "d")])
+
+    def test_effects(self):
+        turn, tour = effect_of(Program("r2")), effect_of(Program("1 ( r2 )4 d"))
+        self.assertEqual(
+            [turn.taken, turn.left, tour.left, (turn * 10 ** 30)((4, 5, 6)), (turn + turn + turn).taken],
+            [3, (("in", 1), ("in", 0), ("in", 2)), (("in", 0), ("lit", 1)), (5, 6, 4), 0])
+
+    def test_same_effect_and_cut(self):
+        self.assertEqual(
+            [same_effect(Program("r1 r1"), Program("")), Effect(2, (("in", 1), ("lit", 7))).taken,
+             Effect(1, (("in", 0), ("in", 0))).source(5)],
+            [True, 1, ("in", 4)])
+
+
+if __name__ == "__main__":
+    unittest.main()

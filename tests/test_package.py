@@ -1,0 +1,92 @@
+"""The form of the package: its interface, and the rules for the code that are easy to check."""
+
+import ast
+import inspect
+import pathlib
+import unittest
+
+from stackworks import effects, errors, programs
+
+PACKAGE = pathlib.Path(__file__).parent.parent / "stackworks"
+LIBRARY = {"heapq", "math", "itertools", "collections"}
+INTERFACE = {
+    programs: ["Program", "word_at", "words_from", "count_word", "written"],
+    effects: ["Effect", "effect_of", "same_effect"],
+    errors: ["StackError", "InvalidText", "InvalidCommand"],
+}
+METHODS = {
+    programs.Program: ["__init__", "__len__", "__contains__", "__add__", "__mul__", "__eq__"],
+    effects.Effect: ["__init__", "__call__", "__len__", "__add__", "__mul__", "__eq__", "source"],
+}
+
+
+class InterfaceTest(unittest.TestCase):
+    def test_names_are_defined_in_their_files(self):
+        for module, names in INTERFACE.items():
+            for name in names:
+                self.assertEqual(getattr(module, name).__module__, module.__name__, name)
+
+    def test_methods_are_defined_in_their_classes(self):
+        for one, names in METHODS.items():
+            for name in names:
+                self.assertIn(name, vars(one))
+
+    def test_arguments(self):
+        table = [
+            (programs.Program, "(text)"), (programs.word_at, "(program, index)"),
+            (programs.words_from, "(program, index)"), (programs.count_word, "(program, word)"),
+            (programs.written, "(program)"), (effects.Effect, "(taken, left)"),
+            (effects.Effect.source, "(self, depth)"), (effects.effect_of, "(program, *, choices='')"),
+            (effects.same_effect, "(program, other)"),
+        ]
+        for value, arguments in table:
+            self.assertEqual(str(inspect.signature(value)), arguments)
+
+    def test_attributes_are_set_on_each_object(self):
+        for text in ("", "{ | }"):
+            for name in ("text", "need", "rise", "growth", "is_plain", "steps"):
+                self.assertIn(name, vars(programs.Program(text)))
+        for name in ("taken", "left", "growth"):
+            self.assertIn(name, vars(effects.Effect(0, ())))
+
+
+class CodeTest(unittest.TestCase):
+    def files(self):
+        for path in sorted(PACKAGE.glob("*.py")):
+            yield path, path.read_text(encoding="utf-8")
+
+    def test_the_folder_contains_only_code(self):
+        names = [path.name for path in PACKAGE.iterdir() if path.name != "__pycache__"]
+        self.assertEqual([name for name in names if not name.endswith(".py")], [])
+        self.assertIn("__init__.py", names)
+
+    def test_sizes_and_characters(self):
+        for path, text in self.files():
+            lines = text.split("\n")
+            self.assertLess(len(lines), 401, path)
+            for number, line in enumerate(lines, 1):
+                self.assertLess(len(line), 121, (path, number))
+            self.assertTrue(all(char == "\n" or " " <= char <= "~" for char in text), path)
+            for node in ast.walk(ast.parse(text)):
+                if isinstance(node, ast.FunctionDef):
+                    self.assertLess(node.end_lineno - node.lineno, 40, (path, node.name))
+
+    def test_imports(self):
+        for path, text in self.files():
+            tree = ast.parse(text)
+            imports = [node for node in ast.walk(tree) if isinstance(node, (ast.Import, ast.ImportFrom))]
+            for node in imports:
+                self.assertIsInstance(node, ast.ImportFrom, path)
+                self.assertIn(node, tree.body, path)
+                self.assertEqual(node.level, 0, path)
+                self.assertTrue(node.module.startswith("stackworks.") or node.module in LIBRARY, path)
+
+    def test_no_floats_and_no_division(self):
+        for path, text in self.files():
+            for node in ast.walk(ast.parse(text)):
+                self.assertNotIsInstance(node, (ast.Div, ast.Global, ast.AsyncFunctionDef), path)
+                self.assertFalse(isinstance(node, ast.Constant) and isinstance(node.value, (float, complex)), path)
+
+
+if __name__ == "__main__":
+    unittest.main()
