@@ -2,14 +2,12 @@
 
 from stackworks.errors import InvalidChoices, InvalidDepth, InvalidEffect, InvalidStack
 from stackworks.errors import ShortStack, TooHigh
-from stackworks.parts import Choice, Repeat
+from stackworks.moves import cut_move, inputs, joined_move, moved_cells, repeated_move
 from stackworks.programs import MOST_CELLS, check_plain, check_program, check_times
-from stackworks.words import is_between, is_constant, is_integer, read_instruction
+from stackworks.rows import Choice, parts_move
+from stackworks.words import is_between, is_constant, is_integer
 
 MOST_CHOICES = 200
-
-# A move is a tuple (taken, left) like an effect, but it is not always cut.
-NO_MOVE = (0, ())
 
 
 class Effect:
@@ -18,19 +16,31 @@ class Effect:
     def __init__(self, taken, left):
         if not is_between(taken, 0, MOST_CELLS) or not are_sources(left, taken):
             raise InvalidEffect("not the cells that are taken and the sources that are left")
-        self.taken, self.left = cut_move((taken, left))
-        self.growth = len(self.left) - self.taken
+        self.cut = cut_move((taken, left))
+
+    @property
+    def taken(self):
+        """Return the number of cells that are replaced."""
+        return self.cut[0]
+
+    @property
+    def left(self):
+        """Return the sources of the cells that replace them, from the bottom up."""
+        return self.cut[1]
+
+    @property
+    def growth(self):
+        """Return the number of cells afterwards, less the number before."""
+        return len(self.cut[1]) - self.cut[0]
 
     def __call__(self, stack):
         check_stack(stack)
-        if len(stack) < self.taken:
-            raise ShortStack(self.taken)
-        return stack[:len(stack) - self.taken] + seen_cells(self.left, stack)
+        check_height(stack, self.taken)
+        return stack_behind(self.cut, stack)
 
     def source(self, depth):
         """Return the source of the cell that is at a depth behind the effect."""
-        if not is_integer(depth) or depth < 0:
-            raise InvalidDepth("not an integer from 0 on")
+        check_depth(depth)
         if depth < len(self.left):
             return self.left[len(self.left) - 1 - depth]
         return ("in", depth - self.growth)
@@ -39,33 +49,36 @@ class Effect:
         return len(self.left)
 
     def __eq__(self, other):
-        return isinstance(other, Effect) and self.taken == other.taken and self.left == other.left
+        return isinstance(other, Effect) and self.cut == other.cut
 
     def __add__(self, other):
         check_effect(other)
-        return move_effect(joined_move((self.taken, self.left), (other.taken, other.left)))
+        return effect_with(joined_move(self.cut, other.cut))
 
     def __mul__(self, other):
         check_times(other)
         # The result would take or leave at least so many cells, and be very long before it is cut.
         if abs(self.growth) * other > MOST_CELLS:
             raise TooHigh(MOST_CELLS)
-        return move_effect(repeated_move((self.taken, self.left), other))
+        return effect_with(repeated_move(self.cut, other))
 
 
 def are_sources(left, taken):
     """Return whether a value is a tuple of at most 100 sources whose depths are less than taken."""
     if not isinstance(left, tuple) or len(left) > MOST_CELLS:
         return False
-    return all([is_source(source, taken) for source in left])
+    for source in left:
+        if not is_source(source) or source[0] == "in" and source[1] >= taken:
+            return False
+    return True
 
 
-def is_source(value, taken):
-    """Return whether a value is a source whose depth is less than taken."""
+def is_source(value):
+    """Return whether a value is a source with a depth from 0 on, or with a constant."""
     if not isinstance(value, tuple) or len(value) != 2 or not isinstance(value[0], str):
         return False
     if value[0] == "in":
-        return is_between(value[1], 0, taken - 1)
+        return is_integer(value[1]) and value[1] >= 0
     return value[0] == "lit" and is_constant(value[1])
 
 
@@ -82,93 +95,40 @@ def check_stack(stack):
         raise InvalidStack("not a stack")
 
 
+def check_height(stack, least):
+    """Raise an error if a stack has fewer cells than the least number that is needed."""
+    if len(stack) < least:
+        raise ShortStack(least)
+
+
 def check_effect(effect):
     """Raise an error if a value is not an Effect."""
     if not isinstance(effect, Effect):
         raise InvalidEffect("not an Effect")
 
 
-def seen_cells(left, stack):
-    """Return the tuple of the cells that have these sources in a stack."""
-    top = len(stack) - 1
-    return tuple([stack[top - number] if kind == "in" else number for kind, number in left])
+def check_depth(depth):
+    """Raise an error if a value is not the depth of a cell."""
+    if not is_integer(depth) or depth < 0:
+        raise InvalidDepth("not an integer from 0 on")
 
 
-def inputs(low, high):
-    """Return the sources of the untouched cells from depth high - 1 up to depth low."""
-    return tuple([("in", depth) for depth in range(high - 1, low - 1, -1)])
-
-
-def cut_move(move):
-    """Return a move without what it leaves untouched at the bottom."""
+def stack_behind(move, stack):
+    """Return the stack behind a move."""
     taken, left = move
-    counts = {}
-    for source in left:
-        counts[source] = counts.get(source, 0) + 1
-    start = 0
-    while start < len(left) and left[start] == ("in", taken - start - 1) and counts[left[start]] == 1:
-        start += 1
-    return (taken - start, left[start:])
+    top = len(stack) - 1
+    cells = [stack[top - number] if kind == "in" else number for kind, number in left]
+    return stack[:len(stack) - taken] + tuple(cells)
 
 
-def joined_move(first, second):
-    """Return the move of two, one behind the other."""
-    taken, left = first
-    second_taken, second_left = second
-    deepest = taken + max(0, second_taken - len(left))
-    cells = inputs(taken, deepest) + left
-    top = len(cells) - 1
-    moved = [cells[top - source[1]] if source[0] == "in" else source for source in second_left]
-    return (deepest, cells[:len(cells) - second_taken] + tuple(moved))
-
-
-def repeated_move(move, times):
-    """Return the move of so many times, by squaring."""
-    total = NO_MOVE
-    square = move
-    rest = times
-    while rest > 0:
-        if rest % 2 == 1:
-            total = joined_move(total, square)
-        rest = rest // 2
-        if rest > 0:
-            square = joined_move(square, square)
-    return total
-
-
-def move_effect(move):
-    """Return the effect of a move."""
-    taken, left = cut_move(move)
-    if taken > MOST_CELLS or len(left) > MOST_CELLS:
+def effect_with(move):
+    """Return the effect with a move."""
+    cut = cut_move(move)
+    if cut[0] > MOST_CELLS or len(cut[1]) > MOST_CELLS:
         raise TooHigh(MOST_CELLS)
-    return Effect(taken, left)
-
-
-def word_move(word):
-    """Return the move of an instruction."""
-    kind, number = read_instruction(word)
-    if kind == "lit":
-        return (0, (("lit", number),))
-    if kind == "p":
-        return (number + 1, inputs(0, number + 1) + (("in", number),))
-    if kind == "r":
-        return (number + 1, inputs(0, number) + (("in", number),))
-    return (1, ())
-
-
-def part_move(part):
-    """Return the move of a plain part."""
-    if isinstance(part, Repeat):
-        return repeated_move(row_move(part.row), part.times)
-    return word_move(part.word)
-
-
-def row_move(row):
-    """Return the move of a plain row."""
-    total = NO_MOVE
-    for part in row.parts:
-        total = joined_move(total, part_move(part))
-    return total
+    effect = Effect(0, ())
+    effect.cut = cut
+    return effect
 
 
 def pieces_of(row):
@@ -178,47 +138,45 @@ def pieces_of(row):
     ("choice", pieces, pieces). So a plain part is reckoned once, however often it is performed.
     """
     pieces = []
-    move = NO_MOVE
+    plain = []
     for part in row.parts:
-        if part.is_plain:
-            move = joined_move(move, part_move(part))
+        if isinstance(part, tuple) or part.all_steps is not None:
+            plain.append(part)
+            continue
+        pieces.append(("move", parts_move(plain, row.told, row.high), None))
+        plain.clear()
+        if isinstance(part, Choice):
+            pieces.append(("choice", pieces_of(part.first), pieces_of(part.second)))
         else:
-            pieces.append(("move", move, None))
-            move = NO_MOVE
-            if isinstance(part, Choice):
-                pieces.append(("choice", pieces_of(part.first), pieces_of(part.second)))
-            else:
-                pieces.append(("repeat", pieces_of(part.row), part.times))
-    pieces.append(("move", move, None))
+            pieces.append(("repeat", pieces_of(part), part.times))
+    pieces.append(("move", parts_move(plain, row.told, row.high), None))
     return pieces
 
 
-def piece_move(piece, choices, met):
-    """Return the move of a piece, and how many choices are met behind it, if so many are met before it."""
+def piece_cells(piece, choices, met, cells):
+    """Return the cells behind a piece, and how many choices are met behind it, if so many are met before it."""
     kind, first, second = piece
     if kind == "move":
-        return (first, met)
+        return (moved_cells(first, cells), met)
     if kind == "choice":
         if met == len(choices):
             raise InvalidChoices("more choices are met")
-        return pieces_move(first if choices[met] == "0" else second, choices, met + 1)
-    total = NO_MOVE
+        return pieces_cells(first if choices[met] == "0" else second, choices, met + 1, cells)
+    now = cells
     behind = met
     # Each pass meets a choice, so this ends soon, however many passes there are.
     for _ in range(second):
-        move, behind = pieces_move(first, choices, behind)
-        total = joined_move(total, move)
-    return (total, behind)
+        now, behind = pieces_cells(first, choices, behind, now)
+    return (now, behind)
 
 
-def pieces_move(pieces, choices, met):
-    """Return the move of pieces, and how many choices are met behind them, if so many are met before."""
-    total = NO_MOVE
+def pieces_cells(pieces, choices, met, cells):
+    """Return the cells behind pieces, and how many choices are met behind them, if so many are met before."""
+    now = cells
     behind = met
     for piece in pieces:
-        move, behind = piece_move(piece, choices, behind)
-        total = joined_move(total, move)
-    return (total, behind)
+        now, behind = piece_cells(piece, choices, behind, now)
+    return (now, behind)
 
 
 def are_choices(value):
@@ -228,19 +186,28 @@ def are_choices(value):
     return value.count("0") + value.count("1") == len(value)
 
 
+def chosen_move(program, choices):
+    """Return the move of a program with choices, any value; raise InvalidChoices if they are wrong."""
+    if not are_choices(choices):
+        raise InvalidChoices("not a string of at most 200 characters 0 and 1")
+    if program.is_plain:
+        move, met = (program.row.move, 0)
+    else:
+        cells, met = pieces_cells(pieces_of(program.row), choices, 0, inputs(0, program.need))
+        move = (program.need, tuple(cells))
+    if met != len(choices):
+        raise InvalidChoices("fewer choices are met")
+    return move
+
+
 def effect_of(program, *, choices=""):
     """Return the effect of a program, with choices where it meets such."""
     check_program(program)
-    if not are_choices(choices):
-        raise InvalidChoices("not a string of at most 200 characters 0 and 1")
-    move, met = pieces_move(pieces_of(program.row), choices, 0)
-    if met != len(choices):
-        raise InvalidChoices("fewer choices are met")
-    return move_effect(move)
+    return effect_with(chosen_move(program, choices))
 
 
 def same_effect(program, other):
     """Return whether two plain programs do the same to all stacks that are high enough for both."""
     check_plain(program)
     check_plain(other)
-    return effect_of(program) == effect_of(other)
+    return program.row.move == other.row.move

@@ -1,8 +1,9 @@
 """Programs and their steps."""
 
-from stackworks.errors import InvalidProgram, InvalidStep, InvalidTimes, InvalidWord
+from stackworks.errors import InvalidProgram, InvalidStep, InvalidText, InvalidTimes, InvalidWord
 from stackworks.errors import NotPlain, TooDeep, TooHigh, TooLarge
-from stackworks.parts import MOST_BRACKETS, MOST_WORDS, Repeat, part_at, read_text, words_of
+from stackworks.rows import FEW_STEPS, row_of, way_to
+from stackworks.texts import MOST_BRACKETS, MOST_WORDS, most_open, text_sizes, told_words, words_of
 from stackworks.words import LARGEST, is_between, read_instruction
 
 MOST_CELLS = 100
@@ -13,24 +14,58 @@ class Program:
     """A program text that is not too high."""
 
     def __init__(self, text):
-        row = read_text(text)
-        need, rise, growth = row.sizes
-        if need + rise > MOST_CELLS:
+        if not isinstance(text, str):
+            raise InvalidText(None)
+        self.words = words_of(text)
+        self.told = told_words(self.words)
+        self.sizes = text_sizes(self.words, self.told, {})
+        if self.need + self.rise > MOST_CELLS:
             raise TooHigh(MOST_CELLS)
-        self.text = text
-        self.need = need
-        self.rise = rise
-        self.growth = growth
-        self.is_plain = row.is_plain
-        self.steps = row.steps
-        self.row = row
-        self.words = tuple(words_of(text))
+        self._text = text
+        self._row = None
+
+    @property
+    def text(self):
+        """Return the program text."""
+        return self._text
+
+    @property
+    def need(self):
+        """Return the least number of cells on a stack on which the program does not fail."""
+        return self.sizes[0]
+
+    @property
+    def rise(self):
+        """Return the greatest number of cells at any time, less the number before."""
+        return self.sizes[1]
+
+    @property
+    def growth(self):
+        """Return the number of cells afterwards, less the number before."""
+        return self.sizes[2]
+
+    @property
+    def is_plain(self):
+        """Return whether the program has no choices."""
+        return "{" not in self.told
+
+    @property
+    def steps(self):
+        """Return the number of steps, None if the program is not plain."""
+        return self.sizes[3] if "{" not in self.told else None
+
+    @property
+    def row(self):
+        """Return the program as a tree."""
+        if self._row is None:
+            self._row = row_of(self.words, self.told, {}, self.need + self.rise)
+        return self._row
 
     def __len__(self):
         return len(self.words)
 
     def __contains__(self, x):
-        return isinstance(x, str) and x in self.words
+        return isinstance(x, str) and x in self.told
 
     def __eq__(self, other):
         return isinstance(other, Program) and self.text == other.text
@@ -45,11 +80,11 @@ class Program:
         check_times(other)
         if other == 0:
             return Program("")
-        if other == 1 or self.text == "":
+        if other == 1 or len(self.words) == 0:
             return self
         if len(self.words) + 2 > MOST_WORDS:
             raise TooLarge(MOST_WORDS)
-        if self.row.brackets == MOST_BRACKETS:
+        if most_open(self.words) == MOST_BRACKETS:
             raise TooDeep(MOST_BRACKETS)
         return Program(f"( {self.text} ){other}")
 
@@ -83,64 +118,43 @@ def word_at(program, index):
     """Return the instruction of the step with an index."""
     check_plain(program)
     check_step(index, program.steps - 1)
-    row = program.row
-    step = index
-    while True:
-        number = part_at(row, step)
-        part = row.parts[number]
-        if not isinstance(part, Repeat):
-            return part.word
-        step = (step - row.begins[number]) % part.row.steps
-        row = part.row
-
-
-def places_before(row, index):
-    """Return what remains to be done from a step on: tuples (row, number of the next part, further passes).
-
-    The innermost row, which goes on first, is the last one.
-    """
-    places = []
-    passes = 0
-    step = index
-    while True:
-        number = part_at(row, step)
-        if number == len(row.parts) or not isinstance(row.parts[number], Repeat):
-            places.append((row, number, passes))
-            return places
-        places.append((row, number + 1, passes))
-        repeat = row.parts[number]
-        done, step = divmod(step - row.begins[number], repeat.row.steps)
-        passes = repeat.times - 1 - done
-        row = repeat.row
+    row, _, number, rest = way_to(program.row, index)[-1]
+    return row.parts[number][rest]
 
 
 def words_from(program, index):
     """Yield the instructions from a step on, to the end."""
     check_plain(program)
     check_step(index, program.steps)
-    places = places_before(program.row, index)
+    if index == program.steps:
+        return
+    way = way_to(program.row, index)
+    row, _, number, rest = way[-1]
+    yield from row.parts[number][rest:]
+    # What remains to be done: tuples (row, number of the next part, further passes). The innermost row, which
+    # goes on first, is the last one.
+    places = [(row, number + 1, row.times - 1 - done) for row, done, number, _ in way]
     while len(places) > 0:
         row, number, passes = places.pop()
         if number < len(row.parts):
             places.append((row, number + 1, passes))
             part = row.parts[number]
-            if isinstance(part, Repeat):
-                places.append((part.row, 0, part.times - 1))
+            if isinstance(part, tuple):
+                yield from part
+            elif part.all_steps <= FEW_STEPS:
+                yield from part.run
             else:
-                yield part.word
+                places.append((part, 0, part.times - 1))
         elif passes > 0:
             places.append((row, 0, passes - 1))
 
 
 def count_in_row(row, word):
-    """Return how many steps of a plain row are an instruction."""
+    """Return how many steps of all passes of a plain row are an instruction."""
     total = 0
     for part in row.parts:
-        if isinstance(part, Repeat):
-            total = total + part.times * count_in_row(part.row, word)
-        elif part.word == word:
-            total = total + 1
-    return total
+        total = total + (part.count(word) if isinstance(part, tuple) else count_in_row(part, word))
+    return total * row.times
 
 
 def count_word(program, word):

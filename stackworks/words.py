@@ -1,6 +1,7 @@
-"""Numbers and instructions: which values are such, and how high an instruction reaches."""
+"""Numbers and instructions: which values are such, and what an instruction does."""
 
 LARGEST = 10 ** 30
+MOST_DIGITS = 31
 DEEPEST_COPY = 98
 DEEPEST_MOVE = 99
 
@@ -17,13 +18,13 @@ def is_between(value, low, high):
 
 def is_constant(value):
     """Return whether a value can be written by an instruction, and be a cell."""
-    return is_between(value, -LARGEST, LARGEST)
+    return isinstance(value, int) and -LARGEST <= value <= LARGEST and not isinstance(value, bool)
 
 
 def read_number(digits):
     """Return the number from 0 to 10 ** 30 that is written without leading zeros, or None."""
     # isdigit alone would also take digits of other scripts, and int fails for very long texts.
-    if not digits.isascii() or not digits.isdigit() or len(digits) > len(str(LARGEST)):
+    if not digits.isascii() or not digits.isdigit() or len(digits) > MOST_DIGITS:
         return None
     if digits.startswith("0") and digits != "0":
         return None
@@ -32,33 +33,31 @@ def read_number(digits):
 
 
 def read_constant(word):
-    """Return what a word for a constant puts on top, as ("lit", constant), or None."""
+    """Return the constant that a word puts on top, or None."""
     if not word.startswith("-"):
-        number = read_number(word)
-        return None if number is None else ("lit", number)
+        return read_number(word)
     number = read_number(word[1:])
-    return None if number is None or number == 0 else ("lit", -number)
-
-
-def read_depth(word, low, high):
-    """Return the letter of a word and the depth behind it, from low to high, or None."""
-    depth = read_number(word[1:])
-    if depth is None or not low <= depth <= high:
-        return None
-    return (word[0], depth)
+    return None if number is None or number == 0 else -number
 
 
 def read_instruction(word):
-    """Return what an instruction does: ("lit", constant), ("p", depth), ("r", depth), ("d", 0); else None."""
+    """Return what an instruction does, the tuple (reach, growth, source), or None for any other value.
+
+    As many cells as `reach` tells must be there. Growth 1 puts a cell with the source on top, or a copy of the
+    cell at depth reach - 1 if the source is None; growth 0 moves that cell to the top; -1 removes the top.
+    """
     if not isinstance(word, str):
         return None
     if word == "d":
-        return ("d", 0)
+        return (1, -1, None)
     if word.startswith("p"):
-        return read_depth(word, 0, DEEPEST_COPY)
+        depth = read_number(word[1:])
+        return None if depth is None or depth > DEEPEST_COPY else (depth + 1, 1, None)
     if word.startswith("r"):
-        return read_depth(word, 1, DEEPEST_MOVE)
-    return read_constant(word)
+        depth = read_number(word[1:])
+        return None if depth is None or not 1 <= depth <= DEEPEST_MOVE else (depth + 1, 0, None)
+    constant = read_constant(word)
+    return None if constant is None else (0, 1, ("lit", constant))
 
 
 def read_times(word):
@@ -67,15 +66,3 @@ def read_times(word):
         return None
     times = read_number(word[1:])
     return None if times is None or times < 2 else times
-
-
-def instruction_sizes(word):
-    """Return the need, rise and growth of an instruction."""
-    kind, number = read_instruction(word)
-    if kind == "lit":
-        return (0, 1, 1)
-    if kind == "p":
-        return (number + 1, 1, 1)
-    if kind == "r":
-        return (number + 1, 0, 0)
-    return (1, 0, -1)

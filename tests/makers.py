@@ -109,3 +109,45 @@ def pair(rng, most, balanced=False):
             rng.shuffle(tail)
             left[start:] = tail
     return taken, tuple(left)
+
+
+def names_like(rng, count):
+    """Return different names for the lines of a source text."""
+    found = []
+    while len(found) < count:
+        name = "".join(rng.choice("abdpr") for place in range(rng.choice([2, 2, 2, 3, 8])))
+        if name not in found:
+            found.append(name)
+    return found
+
+
+def source_text(rng, count, length, deep=2, choices=True, times=(2, 3), reach=3):
+    """Return a source text of so many lines, the words of which are about so many instructions and names."""
+    found, growths, names = [], {}, names_like(rng, count - 1)
+    for name in names + [None]:
+        words = some_words(rng, rng.randint(1, length), deep, choices, times, reach)
+        growth = rng.choice([-1, 0, 0, 0, 1])
+        words = with_growth(rng, words, growth) or ["p0", "d"]
+        for at, word in enumerate(words):
+            # A name with the same growth can stand for each instruction.
+            same = [other for other in growths if reference.is_instruction(word)
+                    and growths[other] == reference.grown(word)]
+            if same and rng.random() < 0.4:
+                words[at] = rng.choice(same)
+        if name is None:
+            found.append(" ".join(words if rng.random() < 0.9 else []))
+        else:
+            found.append(" ".join([name + ":"] + words))
+            growths[name] = growth
+    return "\n".join(found)
+
+
+def stack(rng, high):
+    """Return a stack of so many cells."""
+    return tuple(rng.choice([rng.randint(-99, 99), rng.randint(-10 ** 30, 10 ** 30)]) for place in range(high))
+
+
+def shown(value):
+    """Return what a program or an effect tells of itself."""
+    names = ["text", "need", "rise", "growth", "is_plain", "steps", "taken", "left"]
+    return [getattr(value, name) for name in names if hasattr(value, name)] + [len(value)]

@@ -24,8 +24,11 @@ def is_times(word):
     return re.fullmatch(r"\)[1-9][0-9]{0,30}", word) is not None and 2 <= int(word[1:]) <= LARGEST
 
 
-def row_of(words, at, deep, where):
-    """Read words into a list of words, ("repeat", row, times) and ("choice", row, row); tell where it ends."""
+def row_of(words, at, deep, where, known=()):
+    """Read words into a list of words, ("repeat", row, times) and ("choice", row, row); tell where it ends.
+
+    Words that are known, with their sizes, become ("known", word, sizes).
+    """
     row = []
     while at < len(words):
         word = words[at]
@@ -33,12 +36,14 @@ def row_of(words, at, deep, where):
             raise Wrong(at)
         if is_instruction(word):
             row.append(word)
+        elif word in known:
+            row.append(("known", word, known[word]))
         elif word == "(":
-            body, at = row_of(words, at + 1, deep + 1, "repeat")
+            body, at = row_of(words, at + 1, deep + 1, "repeat", known)
             row.append(("repeat", body, int(words[at][1:])))
         elif word == "{":
-            first, at = row_of(words, at + 1, deep + 1, "first")
-            second, at = row_of(words, at + 1, deep + 1, "second")
+            first, at = row_of(words, at + 1, deep + 1, "first", known)
+            second, at = row_of(words, at + 1, deep + 1, "second", known)
             if sizes(first)[2] != sizes(second)[2]:
                 raise Wrong(at)
             row.append(("choice", first, second))
@@ -52,8 +57,12 @@ def row_of(words, at, deep, where):
     return row, at
 
 
+def split(text):
+    return text.split(" ") if text else []
+
+
 def read(text):
-    return row_of(text.split(" ") if text else [], 0, 0, "whole")[0]
+    return row_of(split(text), 0, 0, "whole")[0]
 
 
 def wrong_word(text):
@@ -80,6 +89,8 @@ def sizes(row):
     for part in row:
         if isinstance(part, str):
             one = (needed(part), max(0, grown(part)), grown(part))
+        elif part[0] == "known":
+            one = part[2]
         elif part[0] == "repeat":
             need, rise, growth = sizes(part[1])
             more = (part[2] - 1) * growth
@@ -213,3 +224,81 @@ def effect_times(effect, times):
     """Return taken and left of an effect without growth, performed so many times."""
     taken, left = effect
     return cut(taken, many_times(lambda cells: moved(taken, left, cells), marks(taken), times))
+
+
+def all_words(row):
+    """Return the instructions of all steps of a small plain row."""
+    return [word for part in row for word in ([part] if isinstance(part, str) else all_words(part[1]) * part[2])]
+
+
+def values(cells):
+    """Return the tuple of cells without the mark of the constants that were written."""
+    return tuple(cell[1] if isinstance(cell, tuple) else cell for cell in cells)
+
+
+def source_at(taken, left, depth):
+    """Return the source of the cell at a depth behind an effect."""
+    return left[-1 - depth] if depth < len(left) else ("in", depth - len(left) + taken)
+
+
+def back(taken, left, depth, times):
+    """Return the sources of the cell at a depth behind 0, 1, 2 and so many times."""
+    found = [("in", depth)]
+    for time in range(times):
+        kind, number = found[-1]
+        found.append(source_at(taken, left, number) if kind == "in" else found[-1])
+    return found
+
+
+class Source:
+    """A source text: the names, the words of the lines, their sizes, and the place (line, word) of an error."""
+
+    def __init__(self, text):
+        self.names, self.lines, self.sizes, self.wrong = [], [], {}, None
+        texts = text.split("\n")
+        for number, line in enumerate(texts):
+            found = self.wrong_word(split(line), number == len(texts) - 1) if number < 20 else 0
+            if found is not None:
+                self.wrong = (number, found)
+                break
+
+    def wrong_word(self, words, last):
+        """Take a line; return the number of its first wrong word, or None."""
+        if not last:
+            found = re.fullmatch("([a-z]{2,8}):", words[0]) if words else None
+            if found is None or found[1] in self.names:
+                return 0
+            if len(words) == 1:
+                return 1
+        further = words if last else words[1:]
+        try:
+            row = row_of(further, 0, 0, "whole", self.sizes)[0]
+        except Wrong as wrong:
+            return wrong.args[0] + len(words) - len(further)
+        self.lines.append(further)
+        if not last:
+            self.names.append(found[1])
+            self.sizes[found[1]] = sizes(row)
+        return None
+
+    def written(self, number, most=3000):
+        """Return the words of a line with the names replaced, or only more than the most of them."""
+        words = []
+        for word in self.lines[number]:
+            words += self.written(self.names.index(word), most) if word in self.names else [word]
+            if len(words) > most:
+                break
+        return words
+
+    def expected(self, number):
+        """Return the text of the program of a line, or the name and the limit of the error for it."""
+        words = self.written(number)
+        if len(words) > 1000:
+            return ("TooLarge", 1000)
+        opened = deepest = 0
+        for word in words:
+            opened += (word in "({") - (word[0] in ")}")
+            deepest = max(deepest, opened)
+        if deepest > 12:
+            return ("TooDeep", 12)
+        return ("TooHigh", 100) if is_high(" ".join(words)) else " ".join(words)

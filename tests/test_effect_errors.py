@@ -137,7 +137,7 @@ class EffectErrorsTest(unittest.TestCase):
         rng = random.Random(71)
         for turn in range(100):
             effect = Effect(*makers.pair(rng, 9))
-            values = dict(vars(effect))
+            values = makers.shown(effect)
             calls = [
                 lambda: effect + effect, lambda: effect * 3, lambda: effect(tuple(range(20))), lambda: effect * -1,
                 lambda: effect + 1, lambda: effect.source(4), lambda: effect == effect, lambda: effect((1, "2")),
@@ -147,11 +147,11 @@ class EffectErrorsTest(unittest.TestCase):
                     call()
                 except (InvalidTimes, InvalidEffect, InvalidStack):
                     pass
-            self.assertEqual(vars(effect), values)
+            self.assertEqual(makers.shown(effect), values)
         program = Program("( { r1 | r2 } ( 1 d )3 )2")
-        values = dict(vars(program))
+        values = makers.shown(program)
         effect_of(program, choices="01")
-        self.assertEqual(vars(program), values)
+        self.assertEqual(makers.shown(program), values)
         self.assertTrue(effect_of(program, choices="01") == effect_of(program, choices="01"))
 
 

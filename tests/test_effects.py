@@ -214,6 +214,16 @@ class TogetherTest(unittest.TestCase):
                 once = reference.moved(100, order, once)
                 self.check(lambda: effect * times, reference.cut(100, once))
 
+    def test_about_as_many_times_as_cells(self):
+        rng = random.Random(53)
+        for turn in range(150):
+            most = rng.choice([1, 2, 5, 20, 100])
+            taken, left = makers.pair(rng, most, True)
+            effect = Effect(taken, left)
+            high = effect.taken
+            for times in {0, 1, 2, high // 2, high - 1, high, high + 1, 2 * high, 3 * high + 1} - {-1}:
+                self.check(lambda: effect * times, reference.effect_times((taken, left), times))
+
     def test_times_that_take_or_leave_more(self):
         grow, shrink, both = Effect(0, (("lit", 1),)), Effect(1, ()), Effect(3, (("in", 1), ("in", 2)))
         for times in (*range(98, 104), 10 ** 6, MOST - 1, MOST):

@@ -4,7 +4,11 @@ import unittest
 
 from stackworks.effects import Effect, effect_of, same_effect
 from stackworks.errors import InvalidText
+from stackworks.moments import effect_at, next_at, place_at, stack_at
+from stackworks.powers import cell_after, first_time, settles
 from stackworks.programs import Program, count_word, word_at, words_from, written
+from stackworks.stacks import run, states
+from stackworks.units import link, unit, unit_names, unit_steps
 
 
 class ExamplesTest(unittest.TestCase):
@@ -53,6 +57,41 @@ class ExamplesTest(unittest.TestCase):
             [same_effect(Program("r1 r1"), Program("")), Effect(2, (("in", 1), ("lit", 7))).taken,
              Effect(1, (("in", 0), ("in", 0))).source(5)],
             [True, 1, ("in", 4)])
+
+    def test_units(self):
+        source_text = "rot: r2\nmix: rot ( rot )3 p0\nmix d"
+        self.assertEqual(
+            [link(source_text).text, unit(source_text, "mix").growth, unit_names(source_text),
+             unit_steps(source_text, "mix")],
+            ["r2 ( r2 )3 p0 d", 1, ["rot", "mix"], 5])
+
+    def test_stacks(self):
+        pick = Program("{ r1 | } d")
+        self.assertEqual(
+            [run(Program("r2") * 10 ** 30, (4, 5, 6)), run(pick, (5, 6), choices="0"), run(pick, (5, 6), choices="1"),
+             list(states(Program("1 r1"), (5,)))],
+            [(5, 6, 4), (6,), (5,), [(5,), (5, 1), (1, 5)]])
+
+    def test_powers(self):
+        turn, drop, push = effect_of(Program("r2")), effect_of(Program("d")), effect_of(Program("3"))
+        self.assertEqual(
+            [cell_after(turn, 10 ** 30, 0), cell_after(drop, 10 ** 30, 2), cell_after(push, 4, 6),
+             cell_after(push, 4, 2)],
+            [("in", 2), ("in", 1000000000000000000000000000002), ("in", 2), ("lit", 3)])
+
+    def test_first_time_and_settles(self):
+        turn = effect_of(Program("r2"))
+        self.assertEqual(
+            [first_time(turn, 0, ("in", 1)), first_time(turn, 0, ("lit", 1)), settles(turn),
+             settles(effect_of(Program("d 7")))],
+            [2, None, (0, 3), (1, 1)])
+
+    def test_moments(self):
+        tour = Program("1 ( r2 )4 d")
+        self.assertEqual(
+            [effect_at(tour, 3).left, stack_at(tour, 3, (5, 6)), place_at(tour, 3), place_at(tour, 6),
+             next_at(tour, 0, 4)],
+            [(("lit", 1), ("in", 1), ("in", 0)), (1, 5, 6), (2, [2]), None, 5])
 
 
 if __name__ == "__main__":

@@ -5,7 +5,7 @@ import inspect
 import pathlib
 import unittest
 
-from stackworks import effects, errors, programs
+from stackworks import effects, errors, moments, powers, programs, stacks, units
 
 PACKAGE = pathlib.Path(__file__).parent.parent / "stackworks"
 LIBRARY = {"heapq", "math", "itertools", "collections"}
@@ -13,10 +13,18 @@ INTERFACE = {
     programs: ["Program", "word_at", "words_from", "count_word", "written"],
     effects: ["Effect", "effect_of", "same_effect"],
     errors: ["StackError", "InvalidText", "InvalidCommand"],
+    units: ["link", "unit", "unit_names", "unit_steps", "unit_effect"],
+    stacks: ["run", "states"],
+    powers: ["cell_after", "first_time", "settles"],
+    moments: ["effect_at", "stack_at", "place_at", "next_at"],
 }
 METHODS = {
     programs.Program: ["__init__", "__len__", "__contains__", "__add__", "__mul__", "__eq__"],
     effects.Effect: ["__init__", "__call__", "__len__", "__add__", "__mul__", "__eq__", "source"],
+}
+PROPERTIES = {
+    programs.Program: ["text", "need", "rise", "growth", "is_plain", "steps"],
+    effects.Effect: ["taken", "left", "growth"],
 }
 
 
@@ -38,16 +46,32 @@ class InterfaceTest(unittest.TestCase):
             (programs.written, "(program)"), (effects.Effect, "(taken, left)"),
             (effects.Effect.source, "(self, depth)"), (effects.effect_of, "(program, *, choices='')"),
             (effects.same_effect, "(program, other)"),
+            (units.link, "(source_text)"), (units.unit, "(source_text, name)"), (units.unit_names, "(source_text)"),
+            (units.unit_steps, "(source_text, name)"), (units.unit_effect, "(source_text, name)"),
+            (stacks.run, "(program, stack, *, choices='')"), (stacks.states, "(program, stack)"),
+            (powers.cell_after, "(effect, times, depth)"), (powers.first_time, "(effect, depth, source)"),
+            (powers.settles, "(effect)"), (moments.effect_at, "(program, step)"),
+            (moments.stack_at, "(program, step, stack)"), (moments.place_at, "(program, step)"),
+            (moments.next_at, "(program, step, index)"),
         ]
         for value, arguments in table:
             self.assertEqual(str(inspect.signature(value)), arguments)
 
-    def test_attributes_are_set_on_each_object(self):
-        for text in ("", "{ | }"):
-            for name in ("text", "need", "rise", "growth", "is_plain", "steps"):
-                self.assertIn(name, vars(programs.Program(text)))
-        for name in ("taken", "left", "growth"):
-            self.assertIn(name, vars(effects.Effect(0, ())))
+    def test_properties_are_defined_in_their_classes(self):
+        for one, names in PROPERTIES.items():
+            for name in names:
+                self.assertIsInstance(vars(one)[name], property)
+
+    def test_properties_are_there_on_each_object(self):
+        for value in (programs.Program(""), programs.Program("{ | }"), programs.Program("r1") * 3,
+                      programs.Program("r1") + programs.Program("d"), effects.Effect(0, ()),
+                      effects.Effect(0, ()) + effects.Effect(1, ()), effects.effect_of(programs.Program("7"))):
+            for name in PROPERTIES[type(value)]:
+                self.assertTrue(hasattr(value, name))
+                before = getattr(value, name)
+                with self.assertRaises(AttributeError):
+                    setattr(value, name, 7)
+                self.assertEqual(getattr(value, name), before)
 
 
 class CodeTest(unittest.TestCase):

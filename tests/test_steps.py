@@ -15,11 +15,6 @@ WRONG_WORDS = [*reference.STRANGE, 0, 1, "", "x", "r0", "p99", "r100", "-0", "01
                "D", str(MOST + 1), "\u0663", " d", ("d",), Program("d")]
 
 
-def all_words(row):
-    """Return the instructions of all steps of a small plain row."""
-    return [word for part in row for word in ([part] if isinstance(part, str) else all_words(part[1]) * part[2])]
-
-
 def word_of(row, index):
     """Return the instruction of a step by the lengths of the parts before it."""
     for part in row:
@@ -55,7 +50,7 @@ def far_programs(seed, count):
 class StepsTest(unittest.TestCase):
     def test_small_programs(self):
         for text in small_programs(31, 250):
-            program, words = Program(text), all_words(reference.read(text))
+            program, words = Program(text), reference.all_words(reference.read(text))
             self.assertEqual(program.steps, len(words))
             self.assertEqual(written(program), tuple(words))
             self.assertEqual([word_at(program, index) for index in range(len(words))], words)
@@ -66,7 +61,7 @@ class StepsTest(unittest.TestCase):
 
     def test_from_every_step(self):
         for text in ("", "r1", "( 1 )9 d", "( ( r1 )2 d 1 )3 r2", "r2 ( ( ( p0 )2 d d )2 r1 )2 ( d 1 )2"):
-            words = all_words(reference.read(text))
+            words = reference.all_words(reference.read(text))
             for start in range(len(words) + 1):
                 self.assertEqual(list(words_from(Program(text), start)), words[start:])
 
@@ -178,9 +173,9 @@ class ErrorsOfStepsTest(unittest.TestCase):
 
     def test_programs_do_not_change(self):
         program = Program("( r1 ( p0 d )3 )2")
-        values = dict(vars(program))
+        values = makers.shown(program)
         list(words_from(program, 3)), written(program), word_at(program, 5), count_word(program, "d")
-        self.assertEqual(vars(program), values)
+        self.assertEqual(makers.shown(program), values)
 
 
 if __name__ == "__main__":
