@@ -2,7 +2,7 @@
 
 from stackworks.errors import InvalidProgram, InvalidStep, InvalidText, InvalidTimes, InvalidWord
 from stackworks.errors import NotPlain, TooDeep, TooHigh, TooLarge
-from stackworks.rows import FEW_STEPS, row_of, way_to
+from stackworks.rows import FEW_STEPS, number_at, row_of, way_to
 from stackworks.texts import MOST_BRACKETS, MOST_WORDS, most_open, text_sizes, told_words, words_of
 from stackworks.words import LARGEST, is_between, read_instruction
 
@@ -118,8 +118,15 @@ def word_at(program, index):
     """Return the instruction of the step with an index."""
     check_plain(program)
     check_step(index, program.steps - 1)
-    row, _, number, rest = way_to(program.row, index)[-1]
-    return row.parts[number][rest]
+    inner = program.row
+    rest = index
+    while not isinstance(inner, tuple):
+        rest = rest % inner.pass_steps
+        begins = inner.begins
+        number = number_at(begins, rest)
+        rest = rest - begins[number]
+        inner = inner.parts[number]
+    return inner[rest]
 
 
 def words_from(program, index):

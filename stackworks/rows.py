@@ -153,8 +153,9 @@ def way_to(row, step):
     rest = step
     while not isinstance(inner, tuple):
         done, rest = divmod(rest, inner.pass_steps)
-        number = number_at(inner.begins, rest)
-        rest = rest - inner.begins[number]
+        begins = inner.begins
+        number = number_at(begins, rest)
+        rest = rest - begins[number]
         way.append((inner, done, number, rest))
         inner = inner.parts[number]
     return way

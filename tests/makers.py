@@ -1,5 +1,7 @@
 """Programs and effects for the tests, made by a random source with a fixed seed."""
 
+import random
+
 from tests import reference
 
 
@@ -80,6 +82,16 @@ def nested(rng, deep, inner, times):
     for level in range(deep):
         found = f"( {rng.choice(['', 'r1 ', 'p0 d '])}{found} ){rng.choice(times)}"
     return found
+
+
+def far_texts(seed, count):
+    """Yield texts of plain programs of many steps, some of them with many brackets open at the same time."""
+    rng, most = random.Random(seed), reference.LARGEST
+    for turn in range(count):
+        yield text(rng, rng.randint(20, 60), rng.randint(1, 5), False, (2, 7, most, 10 ** 29 + 1), 5)
+    for deep in range(1, 12):
+        yield nested(rng, deep, "r2 ( 5 d )3 r1", (2, most, most - 1))
+    yield "( " * 12 + "r2 p0 d" + f" ){most}" * 12
 
 
 def source(rng, taken):

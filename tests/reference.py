@@ -205,6 +205,19 @@ def effect_of_row(row):
     return cut(need, run_row(row, marks(need)))
 
 
+def effect_by_parts(row):
+    """Return taken and left of a plain row from those of the bodies of its repeats."""
+    need = sizes(row)[0]
+    cells = marks(need)
+    for part in row:
+        if isinstance(part, str):
+            perform(part, cells)
+        else:
+            body = effect_by_parts(part[1])
+            cells = many_times(lambda before: moved(*body, before), cells, part[2])
+    return cut(need, cells)
+
+
 def moved(taken, left, cells):
     """Return the cells behind an effect."""
     below = len(cells) - taken

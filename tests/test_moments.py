@@ -62,15 +62,6 @@ def small_texts(seed, count, most=300):
             yield text
 
 
-def far_texts(seed, count):
-    rng = random.Random(seed)
-    for turn in range(count):
-        yield makers.text(rng, rng.randint(20, 50), rng.randint(1, 5), False, (2, 7, MOST, 10 ** 29 + 1), 5)
-    for deep in range(1, 12):
-        yield makers.nested(rng, deep, "r2 ( 5 d )3 r1", (2, MOST, MOST - 1))
-    yield NESTED
-
-
 def some_steps(rng, steps, count):
     """Return numbers of steps: the first and the last ones, and some between."""
     found = [at for at in (0, 1, 2, steps // 2, steps - 1, steps) if 0 <= at <= steps]
@@ -89,7 +80,8 @@ def cells_at(row, step, cells):
             continue
         many = reference.steps(part[1])
         done = min(step // many, part[2])
-        cells = reference.many_times(lambda before: reference.run_row(part[1], before), list(cells), done)
+        body = reference.effect_by_parts(part[1])
+        cells = reference.many_times(lambda before: reference.moved(*body, before), list(cells), done)
         step -= done * many
         if done < part[2]:
             return cells_at(part[1], step, cells)
@@ -122,7 +114,7 @@ class StateTest(MomentsCase):
 
     def test_far_programs(self):
         rng = random.Random(143)
-        for text in far_texts(144, 60):
+        for text in makers.far_texts(144, 60):
             program, row = Program(text), reference.read(text)
             need = reference.sizes(row)[0]
             stack = makers.stack(rng, rng.randint(need, 100))
@@ -144,7 +136,7 @@ class StateTest(MomentsCase):
                             == effect_at(program, step + 1))
 
     def test_the_beginning_and_the_end(self):
-        for text in (*small_texts(146, 40), *far_texts(147, 20), ""):
+        for text in (*small_texts(146, 40), *makers.far_texts(147, 20), ""):
             program = Program(text)
             self.assertTrue(effect_at(program, 0) == Effect(0, ()))
             self.assertTrue(effect_at(program, program.steps) == effect_of(program))
@@ -176,7 +168,7 @@ class PlaceTest(MomentsCase):
 
     def test_far_programs(self):
         rng = random.Random(149)
-        for text in far_texts(150, 80):
+        for text in makers.far_texts(150, 80):
             program, words = Program(text), text.split(" ")
             told = lengths(words)
             for step in some_steps(rng, program.steps - 1, 10):
@@ -230,7 +222,7 @@ class NextTest(MomentsCase):
 
     def test_far_programs(self):
         rng = random.Random(152)
-        for text in far_texts(153, 60):
+        for text in makers.far_texts(153, 60):
             program, words = Program(text), text.split(" ")
             told = lengths(words)
             for step in some_steps(rng, program.steps, 8):
@@ -258,7 +250,7 @@ class NextTest(MomentsCase):
 
     def test_places_are_found_again(self):
         rng = random.Random(154)
-        for text in far_texts(155, 60):
+        for text in makers.far_texts(155, 60):
             program = Program(text)
             for step in some_steps(rng, program.steps - 1, 10):
                 index, passes = place_at(program, step)

@@ -38,15 +38,6 @@ def small_programs(seed, count):
             yield text
 
 
-def far_programs(seed, count):
-    rng = random.Random(seed)
-    for turn in range(count):
-        yield makers.text(rng, rng.randint(20, 60), rng.randint(1, 5), False, (2, 7, MOST, 10 ** 29 + 1), 5)
-    for deep in range(1, 12):
-        yield makers.nested(rng, deep, "r2 ( 5 d )3 r1", (2, MOST, MOST - 1))
-    yield "( " * 12 + "r2 p0 d" + f" ){MOST}" * 12
-
-
 class StepsTest(unittest.TestCase):
     def test_small_programs(self):
         for text in small_programs(31, 250):
@@ -67,7 +58,7 @@ class StepsTest(unittest.TestCase):
 
     def test_far_programs(self):
         rng = random.Random(32)
-        for text in far_programs(33, 120):
+        for text in makers.far_texts(33, 120):
             program, row = Program(text), reference.read(text)
             steps = reference.steps(row)
             starts = [0, 1, steps - 1, steps - 2, steps // 2, *[rng.randrange(steps) for turn in range(6)]]
