@@ -2,9 +2,9 @@
 
 from stackworks.effects import check_height, check_stack, effect_with, stack_behind
 from stackworks.errors import InvalidIndex
-from stackworks.moves import inputs, moved_cells, repeated_move, run_cells
+from stackworks.moves import inputs
 from stackworks.programs import check_plain, check_step
-from stackworks.rows import number_at, parts_cells, way_to
+from stackworks.rows import cells_between, number_at, way_to
 from stackworks.words import is_between
 
 
@@ -12,14 +12,7 @@ def move_at(program, step):
     """Return the move of the first steps of a plain program."""
     if step == program.steps:
         return program.row.move
-    way = way_to(program.row, step)
-    cells = inputs(0, program.need)
-    for row, done, number, _ in way:
-        if done > 0:
-            cells = moved_cells(repeated_move(row.move, done), cells)
-        cells = parts_cells(row.parts[:number], row.told, cells)
-    row, _, number, rest = way[-1]
-    return (program.need, tuple(run_cells(row.parts[number][:rest], row.told, cells)))
+    return (program.need, tuple(cells_between(program.row, 0, step, inputs(0, program.need))))
 
 
 def effect_at(program, step):

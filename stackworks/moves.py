@@ -5,6 +5,8 @@ a tuple or a list from the bottom up, of sources or of anything else; none of th
 """
 
 NO_MOVE = (0, ())
+# Stands for each cell that has arrived; only what is no input matters.
+ARRIVED = ("lit", 0)
 
 
 def inputs(low, high):
@@ -48,6 +50,28 @@ def run_cells(run, told, cells):
         else:
             now.append(source)
     return now
+
+
+def lying_cells(run, told, cells):
+    """Return the list of the cells behind a run, with a constant in place of each cell that arrives in it."""
+    now = list(cells)
+    for word in run:
+        reach, growth, _ = told[word]
+        if growth < 0:
+            now.pop()
+            continue
+        if growth == 0:
+            now.pop(-reach)
+        now.append(ARRIVED)
+    return now
+
+
+def source_behind(move, depth):
+    """Return the source of the cell that is at a depth behind a move."""
+    taken, left = move
+    if depth < len(left):
+        return left[-1 - depth]
+    return ("in", depth - len(left) + taken)
 
 
 def joined_move(first, second):
@@ -121,3 +145,45 @@ def settled_move(move, times):
         _, ring, place = ways[source]
         left.append(ring[(place + times) % len(ring)])
     return (taken, tuple(left))
+
+
+def times_to_reach(move, depth):
+    """Return how many times the way back from a depth stays in cells that the move does not replace.
+
+    It is None if it stays there for ever.
+    """
+    taken, left = move
+    growth = len(left) - taken
+    if depth < len(left):
+        return 0
+    return (depth - len(left)) // growth + 1 if growth > 0 else None
+
+
+def way_back(move, times, depth):
+    """Return where the way back ends from the cell that is at a depth behind so many times.
+
+    This is the tuple (times, depth): behind so many times the cell was at this depth, and the last one of them
+    has put a constant there; for 0 times the cell was at this depth at the beginning.
+    """
+    taken, left = move
+    growth = len(left) - taken
+    far = times_to_reach(move, depth)
+    if far is None or far >= times:
+        return (0, depth - growth * times)
+    # From here on the way goes back through the cells that the move has left, or out below them.
+    at = depth - growth * far
+    rest = times - far
+    places = {}
+    line = []
+    while rest > 0 and at < len(left):
+        if at in places:
+            ring = line[places[at]:]
+            return (0, ring[rest % len(ring)])
+        places[at] = len(line)
+        line.append(at)
+        kind, number = left[-1 - at]
+        if kind == "lit":
+            return (rest, at)
+        at = number
+        rest = rest - 1
+    return (0, at - growth * rest)

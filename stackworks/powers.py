@@ -4,7 +4,7 @@ from math import lcm
 
 from stackworks.effects import check_depth, check_effect, is_source
 from stackworks.errors import InvalidSource, NotBalanced
-from stackworks.moves import ways_of
+from stackworks.moves import times_to_reach, way_back, ways_of
 from stackworks.programs import check_times
 
 
@@ -14,45 +14,13 @@ def check_source(source):
         raise InvalidSource("not a source")
 
 
-def times_to_reach(move, depth):
-    """Return how many times the way back from a depth stays in cells that the move does not replace.
-
-    It is None if it stays there for ever.
-    """
-    taken, left = move
-    growth = len(left) - taken
-    if depth < len(left):
-        return 0
-    return (depth - len(left)) // growth + 1 if growth > 0 else None
-
-
 def cell_after(effect, times, depth):
     """Return the source of the cell that is at a depth behind so many times."""
     check_effect(effect)
     check_times(times)
     check_depth(depth)
-    left = effect.left
-    growth = effect.growth
-    far = times_to_reach(effect.cut, depth)
-    if far is None or far >= times:
-        return ("in", depth - growth * times)
-    # From here on the way goes back through the cells that the effect has left, or out below them.
-    at = depth - growth * far
-    rest = times - far
-    places = {}
-    line = []
-    while rest > 0 and at < len(left):
-        if at in places:
-            ring = line[places[at]:]
-            return ("in", ring[rest % len(ring)])
-        places[at] = len(line)
-        line.append(at)
-        kind, number = left[len(left) - 1 - at]
-        if kind == "lit":
-            return (kind, number)
-        at = number
-        rest = rest - 1
-    return ("in", at - growth * rest)
+    rest, at = way_back(effect.cut, times, depth)
+    return effect.source(at) if rest > 0 else ("in", at)
 
 
 def times_between(depth, other, growth):

@@ -2,6 +2,7 @@
 
 from stackworks.errors import InvalidProgram, InvalidStep, InvalidText, InvalidTimes, InvalidWord
 from stackworks.errors import NotPlain, TooDeep, TooHigh, TooLarge
+from stackworks.masks import possible_masks
 from stackworks.rows import FEW_STEPS, number_at, row_of, way_to
 from stackworks.texts import MOST_BRACKETS, MOST_WORDS, most_open, text_sizes, told_words, words_of
 from stackworks.words import LARGEST, is_between, read_instruction
@@ -23,6 +24,7 @@ class Program:
             raise TooHigh(MOST_CELLS)
         self._text = text
         self._row = None
+        self._masks = None
 
     @property
     def text(self):
@@ -60,6 +62,13 @@ class Program:
         if self._row is None:
             self._row = row_of(self.words, self.told, {}, self.need + self.rise)
         return self._row
+
+    @property
+    def masks(self):
+        """Return what the program may replace the topmost cells by, a masked move."""
+        if self._masks is None:
+            self._masks = possible_masks(self.row)
+        return self._masks
 
     def __len__(self):
         return len(self.words)

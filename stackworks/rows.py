@@ -1,6 +1,6 @@
 """Programs as trees: rows of runs, repeated rows and choices; their steps, and what they do to cells."""
 
-from stackworks.moves import cut_move, inputs, moved_cells, repeated_move, run_cells
+from stackworks.moves import cut_move, inputs, lying_cells, moved_cells, repeated_move, run_cells
 
 # So few steps are sooner performed one by one.
 FEW_STEPS = 100
@@ -25,6 +25,7 @@ class Row:
         self._places = None
         self._run = None
         self._move = None
+        self._lying = None
 
     @property
     def begins(self):
@@ -53,6 +54,13 @@ class Row:
         if self._move is None:
             self._move = parts_move(self.parts, self.told, self.high)
         return self._move
+
+    @property
+    def lying(self):
+        """Return the cut move of one pass of a plain row, with a constant in place of each cell that arrives."""
+        if self._lying is None:
+            self._lying = lying_move(self.parts, self.told, self.high)
+        return self._lying
 
 
 class Choice:
@@ -185,3 +193,53 @@ def parts_cells(parts, told, cells):
 def parts_move(parts, told, high):
     """Return the cut move of plain parts that can do with so many cells."""
     return cut_move((high, tuple(parts_cells(parts, told, inputs(0, high)))))
+
+
+def lying_move(parts, told, high):
+    """Return the cut move of plain parts that can do with so many cells, for cells that lie still in them."""
+    now = inputs(0, high)
+    for part in parts:
+        if isinstance(part, tuple):
+            now = lying_cells(part, told, now)
+        elif part.all_steps <= FEW_STEPS:
+            now = lying_cells(part.run, told, now)
+        else:
+            now = moved_cells(repeated_move(part.lying, part.times), now)
+    return cut_move((high, tuple(now)))
+
+
+def cells_between(row, start, stop, cells):
+    """Return the cells behind the steps of a plain row from one number of steps to another one."""
+    if start == stop:
+        return cells
+    first, begin = divmod(start, row.pass_steps)
+    last, end = divmod(stop, row.pass_steps)
+    if first == last:
+        return pass_cells(row, begin, end, cells)
+    now = cells
+    if begin > 0:
+        now = pass_cells(row, begin, row.pass_steps, now)
+        first = first + 1
+    if first < last:
+        now = moved_cells(repeated_move(row.move, last - first), now)
+    return now if end == 0 else pass_cells(row, 0, end, now)
+
+
+def pass_cells(row, begin, end, cells):
+    """Return the cells behind the steps of one pass of a plain row from one number of steps to another one."""
+    begins = row.begins
+    first = number_at(begins, begin)
+    last = number_at(begins, end)
+    if first == last:
+        return part_cells(row, first, begin - begins[first], end - begins[first], cells)
+    now = part_cells(row, first, begin - begins[first], begins[first + 1] - begins[first], cells)
+    now = parts_cells(row.parts[first + 1:last], row.told, now)
+    return part_cells(row, last, 0, end - begins[last], now)
+
+
+def part_cells(row, number, begin, end, cells):
+    """Return the cells behind the steps of one part of a plain row from one number of steps to another one."""
+    part = row.parts[number]
+    if isinstance(part, tuple):
+        return run_cells(part[begin:end], row.told, cells)
+    return cells_between(part, begin, end, cells)

@@ -6,6 +6,7 @@ from stackworks.moves import NO_MOVE
 from stackworks.programs import MOST_CELLS, Program
 from stackworks.rows import row_of
 from stackworks.texts import MOST_BRACKETS, MOST_WORDS, most_open, text_sizes, told_words, words_of
+from stackworks.words import is_name
 
 MOST_LINES = 20
 LEAST_LETTERS = 2
@@ -30,9 +31,7 @@ def read_name(words):
     if len(words) == 0 or not words[0].endswith(":"):
         return None
     name = words[0][:-1]
-    if not LEAST_LETTERS <= len(name) <= MOST_LETTERS:
-        return None
-    return name if all(["a" <= letter <= "z" for letter in name]) else None
+    return name if is_name(name, LEAST_LETTERS, MOST_LETTERS) else None
 
 
 def line_sizes(words, told, known, number, first):

@@ -21,15 +21,20 @@ def is_constant(value):
     return isinstance(value, int) and -LARGEST <= value <= LARGEST and not isinstance(value, bool)
 
 
-def read_number(digits):
-    """Return the number from 0 to 10 ** 30 that is written without leading zeros, or None."""
+def read_digits(digits, most):
+    """Return the number that is written without leading zeros in at most so many digits, or None."""
     # isdigit alone would also take digits of other scripts, and int fails for very long texts.
-    if not digits.isascii() or not digits.isdigit() or len(digits) > MOST_DIGITS:
+    if not digits.isascii() or not digits.isdigit() or len(digits) > most:
         return None
     if digits.startswith("0") and digits != "0":
         return None
-    number = int(digits)
-    return number if number <= LARGEST else None
+    return int(digits)
+
+
+def read_number(digits):
+    """Return the number from 0 to 10 ** 30 that is written without leading zeros, or None."""
+    number = read_digits(digits, MOST_DIGITS)
+    return number if number is not None and number <= LARGEST else None
 
 
 def read_constant(word):
@@ -66,3 +71,10 @@ def read_times(word):
         return None
     times = read_number(word[1:])
     return None if times is None or times < 2 else times
+
+
+def is_name(value, least, most):
+    """Return whether a value is a string of so many letters from a to z."""
+    if not isinstance(value, str) or not least <= len(value) <= most:
+        return False
+    return all(["a" <= letter <= "z" for letter in value])

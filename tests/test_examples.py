@@ -2,12 +2,19 @@
 
 import unittest
 
+from stackworks.console import Console
+from stackworks.decisions import certain_source, choices_for, effects_of, is_decided, possible_sources
 from stackworks.effects import Effect, effect_of, same_effect
 from stackworks.errors import InvalidText
 from stackworks.moments import effect_at, next_at, place_at, stack_at
+from stackworks.origins import arrived_at, first_with, origin_at
 from stackworks.powers import cell_after, first_time, settles
 from stackworks.programs import Program, count_word, word_at, words_from, written
+from stackworks.sessions import Session
+from stackworks.shorten import saved, shorten, shortest
+from stackworks.shuffles import can_reach, fewest, plan, shuffled
 from stackworks.stacks import run, states
+from stackworks.undoing import can_undo, fewest_for, lost_from, program_for, steps_to_go, undo_for
 from stackworks.units import link, unit, unit_names, unit_steps
 
 
@@ -92,6 +99,63 @@ class ExamplesTest(unittest.TestCase):
             [effect_at(tour, 3).left, stack_at(tour, 3, (5, 6)), place_at(tour, 3), place_at(tour, 6),
              next_at(tour, 0, 4)],
             [(("lit", 1), ("in", 1), ("in", 0)), (1, 5, 6), (2, [2]), None, 5])
+
+    def test_origins(self):
+        tour = Program("1 ( r2 )4 d")
+        self.assertEqual(
+            [[origin_at(tour, 3, depth) for depth in range(3)], [arrived_at(tour, 3, depth) for depth in range(4)],
+             first_with(tour, 0, ("in", 1))],
+            [[("in", 0), ("in", 1), ("lit", 1, 0)], [2, 1, 0, None], 2])
+        self.assertIs(arrived_at(Program("( r2 )3") * 10 ** 30, 3 * 10 ** 30, 1) == 3 * 10 ** 30 - 2, True)
+
+    def test_shuffles(self):
+        piles = [(("a", "b", "c"), ("c",)), (("a", "b"), ("b", "b")), ((1, 1, 1, 7), (7,)), (("a",), ("b",))]
+        found = plan(("a", "b", "c"), ("c", "a", "c"))
+        self.assertEqual(
+            [[fewest(pile, goal) for pile, goal in piles], found.steps, shuffled(("a", "b", "c"), found)],
+            [[4, 3, 5, None], 4, ("c", "a", "c")])
+        self.assertEqual([can_reach(pile, goal) for pile, goal in piles], [True, True, True, False])
+
+    def test_undoing(self):
+        copy, tour = effect_of(Program("r1 r1 p0")), Program("1 ( r2 )4 d")
+        self.assertEqual(
+            [fewest_for(copy), program_for(copy).text, can_undo(copy), undo_for(copy).text,
+             steps_to_go(tour, 3, effect_of(Program("1")))],
+            [1, "p0", True, "d", 1])
+        self.assertEqual(
+            [lost_from(Program("p0 d d 7"), effect_of(Program(""))),
+             lost_from(Program("r1") * 10 ** 30, effect_of(Program("r1")))],
+            [3, None])
+
+    def test_decisions(self):
+        pick, mixed = Program("{ r1 | } d"), Program("{ r1 | r2 }") * 10 ** 30
+        self.assertEqual(
+            [possible_sources(pick, 0), choices_for(pick, 0, ("in", 1)), effects_of(pick),
+             is_decided(Program("{ p0 d | }"))],
+            [[("in", 0), ("in", 1)], "1", [(1, (), 1), (2, (("in", 0),), 1)], True])
+        late = Program("{ r1 | r2 } 7") * 3
+        self.assertEqual([certain_source(late, 0), len(possible_sources(mixed, 0))], [("lit", 7), 3])
+
+    def test_shortening(self):
+        long = Program("( r1 r1 p0 d 5 )3 r2 r2 r2 r2")
+        self.assertEqual(
+            [shorten(long).text, saved(long), shortest(Program("( r2 )4")).text, shorten(Program("( r1 r1 )9 d")).text],
+            ["( 5 )3 r2", 15, "r2", "d"])
+
+    def test_sessions(self):
+        session = Session.of("1 ( r2 )4 d", 5, 6)
+        self.assertEqual(
+            [session.go(3), session.run_to(4), session.stack, session.poke(0, 9), session.ahead(),
+             session.preview(("go", 5)), session.step, session.base],
+            [(1, 5, 6), 5, (6, 1, 5), 5, (6, 1), (6, 1, 9), 6, 5])
+
+    def test_console(self):
+        console = Console()
+        opened = [console.say("open 1 ( r2 )4 d"), console.say("stack 5 6"), console.say("go 3")]
+        rows = ["next", "origin 2", "since 0", "effect", "left", "undo", "cells", "short"]
+        self.assertEqual(
+            [opened, [console.say(row) for row in rows]],
+            [["ok", "ok", "1 5 6"], ["2", "lit 1 0", "2", "2 in:0 lit:1", "3", "ok", "5 6", "1 ( r2 )4 d"]])
 
 
 if __name__ == "__main__":

@@ -5,7 +5,8 @@ import inspect
 import pathlib
 import unittest
 
-from stackworks import effects, errors, moments, powers, programs, stacks, units
+from stackworks import console, decisions, effects, errors, moments, origins, powers, programs, sessions, shorten
+from stackworks import shuffles, stacks, undoing, units
 
 PACKAGE = pathlib.Path(__file__).parent.parent / "stackworks"
 LIBRARY = {"heapq", "math", "itertools", "collections"}
@@ -17,14 +18,25 @@ INTERFACE = {
     stacks: ["run", "states"],
     powers: ["cell_after", "first_time", "settles"],
     moments: ["effect_at", "stack_at", "place_at", "next_at"],
+    origins: ["origin_at", "arrived_at", "first_with"],
+    shuffles: ["shuffled", "can_reach", "fewest", "plan"],
+    undoing: ["fewest_for", "program_for", "can_undo", "undo_for", "steps_to_go", "lost_from"],
+    decisions: ["possible_sources", "certain_source", "is_decided", "choices_for", "effects_of"],
+    shorten: ["shortest", "shorten", "saved"],
+    sessions: ["Session"],
+    console: ["Console"],
 }
 METHODS = {
     programs.Program: ["__init__", "__len__", "__contains__", "__add__", "__mul__", "__eq__"],
     effects.Effect: ["__init__", "__call__", "__len__", "__add__", "__mul__", "__eq__", "source"],
+    sessions.Session: ["__init__", "__len__", "__eq__", "go", "ahead", "run_to", "poke", "undo", "log", "preview",
+                       "of"],
+    console.Console: ["say"],
 }
 PROPERTIES = {
     programs.Program: ["text", "need", "rise", "growth", "is_plain", "steps"],
     effects.Effect: ["taken", "left", "growth"],
+    sessions.Session: ["program", "stack", "step", "base"],
 }
 
 
@@ -53,6 +65,21 @@ class InterfaceTest(unittest.TestCase):
             (powers.settles, "(effect)"), (moments.effect_at, "(program, step)"),
             (moments.stack_at, "(program, step, stack)"), (moments.place_at, "(program, step)"),
             (moments.next_at, "(program, step, index)"),
+            (origins.origin_at, "(program, step, depth)"), (origins.arrived_at, "(program, step, depth)"),
+            (origins.first_with, "(program, depth, source)"), (shuffles.shuffled, "(pile, program)"),
+            (shuffles.can_reach, "(pile, goal)"), (shuffles.fewest, "(pile, goal)"), (shuffles.plan, "(pile, goal)"),
+            (undoing.fewest_for, "(effect)"), (undoing.program_for, "(effect)"), (undoing.can_undo, "(effect)"),
+            (undoing.undo_for, "(effect)"), (undoing.steps_to_go, "(program, step, effect)"),
+            (undoing.lost_from, "(program, effect)"), (decisions.possible_sources, "(program, depth)"),
+            (decisions.certain_source, "(program, depth)"), (decisions.is_decided, "(program)"),
+            (decisions.choices_for, "(program, depth, source)"), (decisions.effects_of, "(program)"),
+            (shorten.shortest, "(program)"), (shorten.shorten, "(program)"), (shorten.saved, "(program)"),
+            (sessions.Session, "(program, stack)"), (sessions.Session.of, "(text, *cells)"),
+            (sessions.Session.go, "(self, step)"), (sessions.Session.ahead, "(self, *, steps=1)"),
+            (sessions.Session.run_to, "(self, index)"), (sessions.Session.poke, "(self, depth, value)"),
+            (sessions.Session.undo, "(self)"), (sessions.Session.log, "(self)"),
+            (sessions.Session.preview, "(self, *operations)"),
+            (console.Console, "()"), (console.Console.say, "(self, row)"),
         ]
         for value, arguments in table:
             self.assertEqual(str(inspect.signature(value)), arguments)
@@ -65,6 +92,7 @@ class InterfaceTest(unittest.TestCase):
     def test_properties_are_there_on_each_object(self):
         for value in (programs.Program(""), programs.Program("{ | }"), programs.Program("r1") * 3,
                       programs.Program("r1") + programs.Program("d"), effects.Effect(0, ()),
+                      sessions.Session.of("r1", 1, 2), sessions.Session(programs.Program(""), ()),
                       effects.Effect(0, ()) + effects.Effect(1, ()), effects.effect_of(programs.Program("7"))):
             for name in PROPERTIES[type(value)]:
                 self.assertTrue(hasattr(value, name))
