@@ -46,7 +46,7 @@ def is_decided(program):
     """Return whether all choices lead to the same effect."""
     check_program(program)
     _, left = program.masks
-    return all([mask & (mask - 1) == 0 for mask in left])
+    return all([(mask & (mask - 1)) == 0 for mask in left])
 
 
 def most_met(pieces):

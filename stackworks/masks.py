@@ -114,7 +114,7 @@ def row_masks(row, signs):
     # There are at most 100 passes with growth.
     for _ in range(row.times):
         cells = moved_masks(move, cells, signs.width)
-    return (row.high, cells)
+    return cut_masks((row.high, cells), signs.width)
 
 
 def parts_masks(parts, signs, cells):

@@ -67,9 +67,8 @@ def clearing_words(marked, goal):
             remaining.append((label, stands))
             continue
         over[label] = over[label] - 1
-        if len(remaining) > 0:
-            words.append(f"r{len(remaining)}")
-        words.append("d")
+        # It is never the top: a plan that drops that one first is shorter.
+        words.extend([f"r{len(remaining)}", "d"])
     return (words, remaining[::-1])
 
 

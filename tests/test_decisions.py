@@ -151,6 +151,22 @@ class SourcesTest(Case):
             for depth in (0, 1, 5, 19, 20, 30, 39, 40, 70, 200):
                 self.assertEqual(set(possible_sources(program, depth)), often(body, times, depth), (text, depth))
 
+    def test_growing_and_falling_repeats_among_other_words(self):
+        repeats = ["( { 1 | 2 } )3", "( { r1 | } d )2", "( { p0 | p3 } r2 )2", "( { d | r2 d } )3",
+                   "( { r1 | 5 d } p1 )2"]
+        rng = random.Random(376)
+        for turn in range(120):
+            words = []
+            for part in range(3):
+                words += [rng.choice(["d d", "d", "7", "r2", "p1 r3", "d d d"]), rng.choice(repeats)]
+            text = " ".join(words)
+            if reference.many_ways(reference.read(text)) > 512:
+                continue
+            height, found = all_cells(text)
+            for depth in range(len(found[0][1])):
+                expected = sorted({source_in(cells, height, depth) for choices, cells in found})
+                self.assertEqual(possible_sources(Program(text), depth), expected, (text, depth))
+
     def test_plain_programs(self):
         for text in (*small_texts(367, 40), *makers.far_texts(368, 20)):
             program = Program(text)
