@@ -1,6 +1,6 @@
 """Decisions: what programs with choices may do, and what they do in any case."""
 
-from stackworks.effects import MOST_CHOICES, check_depth, pieces_of
+from stackworks.effects import MOST_CHOICES, check_depth
 from stackworks.errors import TooLarge
 from stackworks.masks import constants_of
 from stackworks.moves import cut_move, inputs, moved_cells, source_behind
@@ -62,10 +62,9 @@ def most_met(pieces):
 
 def pieces_for(program, limit):
     """Return the pieces of a program that never meets more choices than the limit."""
-    pieces = pieces_of(program.row)
-    if most_met(pieces) > limit:
+    if most_met(program.pieces) > limit:
         raise TooLarge(limit)
-    return pieces
+    return program.pieces
 
 
 def first_choices(piece):

@@ -4,7 +4,6 @@ from stackworks.errors import InvalidChoices, InvalidDepth, InvalidEffect, Inval
 from stackworks.errors import ShortStack, TooHigh
 from stackworks.moves import cut_move, inputs, joined_move, moved_cells, repeated_move
 from stackworks.programs import MOST_CELLS, check_plain, check_program, check_times
-from stackworks.rows import Choice, parts_move
 from stackworks.words import is_between, is_constant, is_integer
 
 MOST_CHOICES = 200
@@ -131,28 +130,6 @@ def effect_with(move):
     return effect
 
 
-def pieces_of(row):
-    """Return the list of the pieces of a row, tuples of three with their kind in front.
-
-    They are ("move", move, None) for neighbouring plain parts, ("repeat", pieces, times) and
-    ("choice", pieces, pieces). So a plain part is reckoned once, however often it is performed.
-    """
-    pieces = []
-    plain = []
-    for part in row.parts:
-        if isinstance(part, tuple) or part.all_steps is not None:
-            plain.append(part)
-            continue
-        pieces.append(("move", parts_move(plain, row.told, row.high), None))
-        plain.clear()
-        if isinstance(part, Choice):
-            pieces.append(("choice", pieces_of(part.first), pieces_of(part.second)))
-        else:
-            pieces.append(("repeat", pieces_of(part), part.times))
-    pieces.append(("move", parts_move(plain, row.told, row.high), None))
-    return pieces
-
-
 def piece_cells(piece, choices, met, cells):
     """Return the cells behind a piece, and how many choices are met behind it, if so many are met before it."""
     kind, first, second = piece
@@ -193,7 +170,7 @@ def chosen_move(program, choices):
     if program.is_plain:
         move, met = (program.row.move, 0)
     else:
-        cells, met = pieces_cells(pieces_of(program.row), choices, 0, inputs(0, program.need))
+        cells, met = pieces_cells(program.pieces, choices, 0, inputs(0, program.need))
         move = (program.need, tuple(cells))
     if met != len(choices):
         raise InvalidChoices("fewer choices are met")

@@ -3,7 +3,7 @@
 from stackworks.errors import InvalidProgram, InvalidStep, InvalidText, InvalidTimes, InvalidWord
 from stackworks.errors import NotPlain, TooDeep, TooHigh, TooLarge
 from stackworks.masks import possible_masks
-from stackworks.rows import FEW_STEPS, number_at, row_of, way_to
+from stackworks.rows import FEW_STEPS, number_at, pieces_of, row_of, way_to
 from stackworks.texts import MOST_BRACKETS, MOST_WORDS, most_open, text_sizes, told_words, words_of
 from stackworks.words import LARGEST, is_between, read_instruction
 
@@ -24,6 +24,7 @@ class Program:
             raise TooHigh(MOST_CELLS)
         self._text = text
         self._row = None
+        self._pieces = None
         self._masks = None
 
     @property
@@ -62,6 +63,13 @@ class Program:
         if self._row is None:
             self._row = row_of(self.words, self.told, {}, self.need + self.rise)
         return self._row
+
+    @property
+    def pieces(self):
+        """Return the list of the pieces of the program (see pieces_of)."""
+        if self._pieces is None:
+            self._pieces = pieces_of(self.row)
+        return self._pieces
 
     @property
     def masks(self):

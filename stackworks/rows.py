@@ -195,6 +195,28 @@ def parts_move(parts, told, high):
     return cut_move((high, tuple(parts_cells(parts, told, inputs(0, high)))))
 
 
+def pieces_of(row):
+    """Return the list of the pieces of a row, tuples of three with their kind in front.
+
+    They are ("move", move, None) for neighbouring plain parts, ("repeat", pieces, times) and
+    ("choice", pieces, pieces). So a plain part is reckoned once, however often it is performed.
+    """
+    pieces = []
+    plain = []
+    for part in row.parts:
+        if isinstance(part, tuple) or part.all_steps is not None:
+            plain.append(part)
+            continue
+        pieces.append(("move", parts_move(plain, row.told, row.high), None))
+        plain = []
+        if isinstance(part, Choice):
+            pieces.append(("choice", pieces_of(part.first), pieces_of(part.second)))
+        else:
+            pieces.append(("repeat", pieces_of(part), part.times))
+    pieces.append(("move", parts_move(plain, row.told, row.high), None))
+    return pieces
+
+
 def lying_move(parts, told, high):
     """Return the cut move of plain parts that can do with so many cells, for cells that lie still in them."""
     now = inputs(0, high)
